@@ -1,0 +1,97 @@
+// Package press: bytes made as short as the format allows, and brought back: see DOC.md.
+package press
+
+import (
+	"press/api"
+	"press/bits"
+	"press/stream"
+	"press/sum"
+	"press/tokens"
+)
+
+// Encoder takes data piece by piece.
+type Encoder struct{}
+
+// Decoder takes a stream piece by piece.
+type Decoder struct{}
+
+// Sum tells the sum of some bytes (P3).
+func Sum(data []byte) int { return sum.Of(data) }
+
+// Expand gives what tokens make (P4).
+func Expand(ts []api.Token) ([]byte, api.Errno) {
+	made, right := tokens.Expand(ts)
+	if !right {
+		return nil, api.ErrTokens
+	}
+	return made, api.OK
+}
+
+// Cost tells how many bits tokens have (P4).
+func Cost(ts []api.Token) (int, api.Errno) {
+	cost, right := tokens.Cost(ts)
+	if !right {
+		return 0, api.ErrTokens
+	}
+	return cost, api.OK
+}
+
+// Pack writes the stream of these tokens (P5).
+func Pack(pieces [][]api.Token) ([]byte, api.Errno) {
+	if len(pieces) > api.MaxPieces {
+		return nil, api.ErrLong
+	}
+	w := &bits.Writer{}
+	stream.WriteBegin(w)
+	for i, ts := range pieces {
+		piece, right := tokens.Expand(ts)
+		last := i == len(pieces)-1
+		if !right || !mayBePiece(len(piece), last) {
+			return nil, api.ErrTokens
+		}
+		stream.WriteFrame(w, piece, ts)
+	}
+	stream.WriteEnd(w)
+	return w.Bytes(), api.OK
+}
+
+// mayBePiece tells whether data may have a piece of n bytes (at most Piece) at this place.
+func mayBePiece(n int, last bool) bool {
+	return n == api.Piece || last && n >= 1
+}
+
+// Unpack reads the tokens of a stream (P6).
+func Unpack(s []byte) ([][]api.Token, api.Errno) { return nil, api.OK }
+
+// Decompress reads the data of a stream (P6).
+func Decompress(s []byte) ([]byte, api.Errno) { return nil, api.OK }
+
+// Parse finds tokens of the least cost (P7).
+func Parse(piece []byte) ([]api.Token, api.Errno) { return nil, api.OK }
+
+// Ways tells the least cost, and how many lists of tokens have it (P8).
+func Ways(piece []byte) (int, int, api.Errno) { return 0, 0, api.OK }
+
+// Nth finds one of the lists of least cost by its number (P8).
+func Nth(piece []byte, k int) ([]api.Token, api.Errno) { return nil, api.OK }
+
+// Compress writes a shortest stream, with the tokens that Parse finds (P9).
+func Compress(data []byte) ([]byte, api.Errno) { return nil, api.OK }
+
+// NewEncoder makes an Encoder (P10).
+func NewEncoder() *Encoder { return nil }
+
+// Write takes data, and gives what is certain of the stream (P10).
+func (x *Encoder) Write(p []byte) ([]byte, api.Errno) { return nil, api.OK }
+
+// Close gives the rest of the stream (P10).
+func (x *Encoder) Close() ([]byte, api.Errno) { return nil, api.OK }
+
+// NewDecoder makes a Decoder (P11).
+func NewDecoder() *Decoder { return nil }
+
+// Feed takes bytes of a stream, and gives data (P11).
+func (x *Decoder) Feed(p []byte) ([]byte, api.Errno) { return nil, api.OK }
+
+// End tells how the stream ended (P11).
+func (x *Decoder) End() api.Errno { return api.OK }
