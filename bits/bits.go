@@ -1,4 +1,4 @@
-// Package bits: bits laid into bytes, the highest first.
+// Package bits: bits laid into bytes, the highest first, and taken out of them.
 package bits
 
 const perByte = 8

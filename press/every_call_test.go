@@ -2,6 +2,7 @@ package press_test
 
 import (
 	"bytes"
+	"fmt"
 	"reflect"
 	"testing"
 
@@ -81,8 +82,55 @@ func TestP1Nil(t *testing.T) {
 	made, e := press.Expand(nil)
 	cost, f := press.Cost(nil)
 	s, g := press.Pack(nil)
+	h, i := callOnStream(t, nil)
+	if h != api.ErrShort || i != api.ErrShort {
+		t.Errorf("Decompress and Unpack of nil: %d, %d", h, i)
+	}
 	if len(made) != 0 || e != api.OK || cost != 0 || f != api.OK || string(s) != "PZ1\x80" || g != api.OK || press.Sum(nil) != 0 {
 		t.Errorf("of nil: %q, %d; %d, %d; % x, %d; %d", made, e, cost, f, s, g, press.Sum(nil))
+	}
+}
+
+// callOnStream asks every call that reads a stream, and tells of a result beside an error.
+func callOnStream(t *testing.T, s []byte) (api.Errno, api.Errno) {
+	t.Helper()
+	data, e := press.Decompress(s)
+	pieces, f := press.Unpack(s)
+	if e != api.OK && len(data) != 0 || f != api.OK && len(pieces) != 0 {
+		t.Errorf("Decompress and Unpack of %d bytes: %q, %v beside the errors %d, %d", len(s), data, pieces, e, f)
+	}
+	return e, f
+}
+
+func TestP1OddStreams(t *testing.T) {
+	d := &dice{9}
+	for i := 0; i < 3000; i++ {
+		s := modelStream(d.pieces())
+		for turns := d.below(4); turns > 0; turns-- {
+			s[d.below(len(s))] = byte(d.below(256))
+		}
+		s = s[:len(s)-d.below(3)]
+		callOnStream(t, s)
+		drawn := []byte("PZ1")
+		for len(drawn) < i%100 {
+			drawn = append(drawn, byte(d.below(256)&d.below(256)))
+		}
+		callOnStream(t, drawn)
+	}
+	for _, n := range []int{0, 1, 4095, 4096} {
+		for _, b := range []byte{0, 1, 127, 128, 255} {
+			callOnStream(t, bytes.Repeat([]byte{b}, n))
+			callOnStream(t, append([]byte("PZ1"), bytes.Repeat([]byte{b}, max(n-3, 0))...))
+		}
+	}
+}
+
+func TestP1LongStreams(t *testing.T) {
+	for _, n := range []int{4097, 1 << 16, 1 << 25} {
+		e, f := callOnStream(t, make([]byte, n))
+		if e != api.ErrLong || f != api.ErrLong {
+			t.Errorf("of %d bytes: %d, %d", n, e, f)
+		}
 	}
 }
 
@@ -121,6 +169,27 @@ func TestP2NothingHandedInIsWritten(t *testing.T) {
 	}
 }
 
+func TestP2NoStreamIsWritten(t *testing.T) {
+	d := &dice{10}
+	for i := 0; i < 500; i++ {
+		whole := modelStream(d.pieces())
+		all := append(append([]byte{}, whole...), letters(100)...)
+		kept := string(all)
+		n := len(whole)
+		if i%2 == 0 {
+			n = d.below(n)
+		}
+		// What stands behind is the rest of a stream, and is not read.
+		e, f := callOnStream(t, all[:n])
+		if n < len(whole) && (e != api.ErrShort || f != api.ErrShort) || n == len(whole) && (e != api.OK || f != api.OK) {
+			t.Fatalf("of %d bytes of % x: %d, %d", n, whole, e, f)
+		}
+		if string(all) != kept {
+			t.Fatalf("the stream % x was changed", whole)
+		}
+	}
+}
+
 // scribble writes into a list and into its spare room.
 func scribble(s []byte) {
 	s = s[:cap(s)]
@@ -154,6 +223,55 @@ func TestP2ListsAreFresh(t *testing.T) {
 	scribble(none)
 	if s, _ := press.Pack(nil); string(s) != "PZ1\x80" {
 		t.Errorf("Pack(nil) = % x", s)
+	}
+}
+
+func scribbleTokens(ts []api.Token) {
+	ts = ts[:cap(ts)]
+	for i := range ts {
+		ts[i] = api.Token{Len: -1, Dist: -1, Byte: -1}
+	}
+}
+
+func TestP2ListsOfAStreamAreFresh(t *testing.T) {
+	d := &dice{11}
+	for i := 0; i < 300; i++ {
+		s := modelStream(d.pieces())
+		want, data, _ := modelRead(s)
+		first, _ := press.Decompress(s)
+		second, _ := press.Decompress(s)
+		pieces, _ := press.Unpack(s)
+		other, _ := press.Unpack(s)
+		scribble(first)
+		// Each list is written over in turn, and those behind it are still what they were.
+		for k := range pieces {
+			if !reflect.DeepEqual(pieces[k:], want[k:]) {
+				t.Fatalf("the lists of % x share memory: %v, want %v", s, pieces[k:], want[k:])
+			}
+			scribbleTokens(pieces[k])
+		}
+		room := pieces[:cap(pieces)]
+		for k := range room {
+			room[k] = nil
+		}
+		again, _ := press.Decompress(s)
+		piecesAgain, _ := press.Unpack(s)
+		if string(second) != data || string(again) != data || fmt.Sprint(other) != fmt.Sprint(want) || fmt.Sprint(piecesAgain) != fmt.Sprint(want) {
+			t.Fatalf("of % x: %q, %q, want %q; %v, %v, want %v", s, second, again, data, other, piecesAgain, want)
+		}
+	}
+}
+
+func TestP2NothingOfAStreamIsKept(t *testing.T) {
+	s := []byte("PZ1\x46\x10aa\x80")
+	data, _ := press.Decompress(s)
+	pieces, _ := press.Unpack(s)
+	scribble(s)
+	if string(data) != "a" || !reflect.DeepEqual(pieces, [][]api.Token{literals("a")}) {
+		t.Errorf("an answer changed with what was handed in: %q, %v", data, pieces)
+	}
+	if e, f := callOnStream(t, s); e != api.ErrMagic || f != api.ErrMagic {
+		t.Errorf("of a changed stream: %d, %d", e, f)
 	}
 }
 

@@ -102,12 +102,116 @@ func modelStream(pieces [][]api.Token) []byte {
 	return append(s, 128)
 }
 
+// modelReader takes a stream as a string of bits; what is wrong with it is thrown.
+type modelReader struct{ bits string }
+
+func (m *modelReader) take(n int) int {
+	v := 0
+	for ; n > 0; n-- {
+		if m.bits == "" {
+			panic(api.ErrShort)
+		}
+		v = 2*v + int(m.bits[0]-'0')
+		m.bits = m.bits[1:]
+	}
+	return v
+}
+
+func (m *modelReader) number(tooMany api.Errno) int {
+	for zeros := 0; ; zeros++ {
+		if zeros == 7 {
+			panic(tooMany)
+		}
+		if m.take(1) == 1 {
+			return 1<<zeros + m.take(zeros)
+		}
+	}
+}
+
+func (m *modelReader) pad() {
+	for len(m.bits)%8 != 0 {
+		wrongIf(m.take(1) == 1, api.ErrPad)
+	}
+}
+
+func wrongIf(wrong bool, e api.Errno) {
+	if wrong {
+		panic(e)
+	}
+}
+
+// frame reads the tokens of n bytes, and what stands behind them.
+func (m *modelReader) frame(n int) ([]api.Token, string) {
+	var ts []api.Token
+	made := ""
+	for len(made) < n {
+		if m.take(1) == 0 {
+			ts = append(ts, literal(m.take(8)))
+		} else {
+			length := m.number(api.ErrToken) + 1
+			wrongIf(length > n-len(made), api.ErrToken)
+			dist := m.number(api.ErrToken)
+			wrongIf(dist > 32 || dist > len(made), api.ErrToken)
+			ts = append(ts, copyOf(length, dist))
+		}
+		made, _ = modelMade(ts)
+	}
+	m.pad()
+	sum := m.take(8)
+	sum += m.take(8) << 8
+	wrongIf(sum != modelSum(made), api.ErrSum)
+	return ts, made
+}
+
+// modelRead reads a stream.
+func modelRead(s []byte) (pieces [][]api.Token, data string, e api.Errno) {
+	if len(s) > 4096 {
+		return nil, "", api.ErrLong
+	}
+	defer func() {
+		if thrown := recover(); thrown != nil {
+			pieces, data, e = nil, "", thrown.(api.Errno)
+		}
+	}()
+	var all strings.Builder
+	for _, b := range s {
+		fmt.Fprintf(&all, "%08b", b)
+	}
+	m := &modelReader{all.String()}
+	for _, b := range []int{'P', 'Z', '1'} {
+		wrongIf(m.take(8) != b, api.ErrMagic)
+	}
+	for last := 64; ; {
+		n := m.number(api.ErrFrame) - 1
+		if n == 0 {
+			m.pad()
+			wrongIf(m.bits != "", api.ErrMore)
+			return pieces, data, api.OK
+		}
+		wrongIf(n > 64 || last < 64, api.ErrFrame)
+		ts, made := m.frame(n)
+		pieces, data, last = append(pieces, ts), data+made, n
+	}
+}
+
 // dice gives numbers that look like chance and are the same in each run.
 type dice struct{ state uint64 }
 
 func (d *dice) below(n int) int {
 	d.state = d.state*6364136223846793005 + 1442695040888963407
 	return int(d.state>>33) % n
+}
+
+// pieces gives the tokens of up to four pieces.
+func (d *dice) pieces() [][]api.Token {
+	var pieces [][]api.Token
+	for n := d.below(4); n > 0; n-- {
+		pieces = append(pieces, d.tokens(64))
+	}
+	if d.below(8) > 0 {
+		pieces = append(pieces, d.tokens(1+d.below(64)))
+	}
+	return pieces
 }
 
 // tokens gives right tokens that make n bytes (0 to 64).

@@ -61,10 +61,30 @@ func mayBePiece(n int, last bool) bool {
 }
 
 // Unpack reads the tokens of a stream (P6).
-func Unpack(s []byte) ([][]api.Token, api.Errno) { return nil, api.OK }
+func Unpack(s []byte) ([][]api.Token, api.Errno) {
+	frames, e := stream.Read(s)
+	if e != api.OK {
+		return nil, e
+	}
+	var pieces [][]api.Token
+	for _, f := range frames {
+		pieces = append(pieces, f.Tokens)
+	}
+	return pieces, api.OK
+}
 
 // Decompress reads the data of a stream (P6).
-func Decompress(s []byte) ([]byte, api.Errno) { return nil, api.OK }
+func Decompress(s []byte) ([]byte, api.Errno) {
+	frames, e := stream.Read(s)
+	if e != api.OK {
+		return nil, e
+	}
+	var data []byte
+	for _, f := range frames {
+		data = append(data, f.Piece...)
+	}
+	return data, api.OK
+}
 
 // Parse finds tokens of the least cost (P7).
 func Parse(piece []byte) ([]api.Token, api.Errno) { return nil, api.OK }
