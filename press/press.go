@@ -3,6 +3,7 @@ package press
 
 import (
 	"press/api"
+	"press/best"
 	"press/bits"
 	"press/stream"
 	"press/sum"
@@ -86,17 +87,53 @@ func Decompress(s []byte) ([]byte, api.Errno) {
 	return data, api.OK
 }
 
-// Parse finds tokens of the least cost (P7).
-func Parse(piece []byte) ([]api.Token, api.Errno) { return nil, api.OK }
+// Parse finds tokens of the least cost (P7): the first of the best, which there always is.
+func Parse(piece []byte) ([]api.Token, api.Errno) { return Nth(piece, 0) }
 
 // Ways tells the least cost, and how many lists of tokens have it (P8).
-func Ways(piece []byte) (int, int, api.Errno) { return 0, 0, api.OK }
+func Ways(piece []byte) (int, int, api.Errno) {
+	if len(piece) > api.Piece {
+		return 0, 0, api.ErrLong
+	}
+	cost, ways := best.Ways(piece)
+	return cost, ways, api.OK
+}
 
 // Nth finds one of the lists of least cost by its number (P8).
-func Nth(piece []byte, k int) ([]api.Token, api.Errno) { return nil, api.OK }
+func Nth(piece []byte, k int) ([]api.Token, api.Errno) {
+	if len(piece) > api.Piece {
+		return nil, api.ErrLong
+	}
+	ts, there := best.Nth(piece, k)
+	if !there {
+		return nil, api.ErrArg
+	}
+	return ts, api.OK
+}
 
 // Compress writes a shortest stream, with the tokens that Parse finds (P9).
-func Compress(data []byte) ([]byte, api.Errno) { return nil, api.OK }
+func Compress(data []byte) ([]byte, api.Errno) {
+	if len(data) > api.MaxData {
+		return nil, api.ErrLong
+	}
+	w := &bits.Writer{}
+	stream.WriteBegin(w)
+	for from := 0; from < len(data); from += api.Piece {
+		to := from + api.Piece
+		if to > len(data) {
+			to = len(data)
+		}
+		writePiece(w, data[from:to])
+	}
+	stream.WriteEnd(w)
+	return w.Bytes(), api.OK
+}
+
+// writePiece lays down the frame of a piece. It has at most Piece bytes, so Parse has no error to tell.
+func writePiece(w *bits.Writer, piece []byte) {
+	ts, _ := Parse(piece)
+	stream.WriteFrame(w, piece, ts)
+}
 
 // NewEncoder makes an Encoder (P10).
 func NewEncoder() *Encoder { return nil }

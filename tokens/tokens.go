@@ -48,12 +48,13 @@ func Cost(ts []api.Token) (int, bool) {
 			return 0, false
 		}
 		made += t.Len
-		cost += costOf(t)
+		cost += CostOf(t)
 	}
 	return cost, true
 }
 
-func costOf(t api.Token) int {
+// CostOf tells how many bits a token has, which is a literal or a copy.
+func CostOf(t api.Token) int {
 	if t.Dist == 0 {
 		return literalCost
 	}
