@@ -74,5 +74,10 @@ func (r *Reader) Rest() api.Errno {
 
 // AtEnd tells whether there is no bit left.
 func (r *Reader) AtEnd() bool {
-	return r.at/perByte >= len(r.source)
+	return r.BytesRead() >= len(r.source)
+}
+
+// BytesRead tells how many bytes have been read to their last bit.
+func (r *Reader) BytesRead() int {
+	return r.at / perByte
 }

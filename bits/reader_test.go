@@ -97,3 +97,16 @@ func TestReadRest(t *testing.T) {
 		t.Errorf("at the beginning of a byte there is no rest: %d", e)
 	}
 }
+
+func TestBytesRead(t *testing.T) {
+	r := NewReader([]byte{1, 2, 3})
+	for read := 0; read <= 24; read++ {
+		if got := r.BytesRead(); got != read/8 || r.AtEnd() != (read == 24) {
+			t.Errorf("%d bits read: %d bytes", read, got)
+		}
+		r.Bit()
+	}
+	if got := r.BytesRead(); got != 3 {
+		t.Errorf("beyond the end: %d bytes", got)
+	}
+}

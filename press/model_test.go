@@ -164,13 +164,22 @@ func (m *modelReader) frame(n int) ([]api.Token, string) {
 }
 
 // modelRead reads a stream.
-func modelRead(s []byte) (pieces [][]api.Token, data string, e api.Errno) {
+func modelRead(s []byte) ([][]api.Token, string, api.Errno) {
+	pieces, data, e := modelReadFar(s)
+	if e != api.OK {
+		return nil, "", e
+	}
+	return pieces, data, e
+}
+
+// modelReadFar reads a stream as far as it can, and gives what it read ahead of an error too.
+func modelReadFar(s []byte) (pieces [][]api.Token, data string, e api.Errno) {
 	if len(s) > 4096 {
 		return nil, "", api.ErrLong
 	}
 	defer func() {
 		if thrown := recover(); thrown != nil {
-			pieces, data, e = nil, "", thrown.(api.Errno)
+			e = thrown.(api.Errno)
 		}
 	}()
 	var all strings.Builder

@@ -10,12 +10,6 @@ import (
 	"press/tokens"
 )
 
-// Encoder takes data piece by piece.
-type Encoder struct{}
-
-// Decoder takes a stream piece by piece.
-type Decoder struct{}
-
 // Sum tells the sum of some bytes (P3).
 func Sum(data []byte) int { return sum.Of(data) }
 
@@ -80,11 +74,16 @@ func Decompress(s []byte) ([]byte, api.Errno) {
 	if e != api.OK {
 		return nil, e
 	}
+	return dataOf(frames), api.OK
+}
+
+// dataOf lays the pieces of frames one behind the other, in memory of their own.
+func dataOf(frames []stream.Frame) []byte {
 	var data []byte
 	for _, f := range frames {
 		data = append(data, f.Piece...)
 	}
-	return data, api.OK
+	return data
 }
 
 // Parse finds tokens of the least cost (P7): the first of the best, which there always is.
@@ -134,21 +133,3 @@ func writePiece(w *bits.Writer, piece []byte) {
 	ts, _ := Parse(piece)
 	stream.WriteFrame(w, piece, ts)
 }
-
-// NewEncoder makes an Encoder (P10).
-func NewEncoder() *Encoder { return nil }
-
-// Write takes data, and gives what is certain of the stream (P10).
-func (x *Encoder) Write(p []byte) ([]byte, api.Errno) { return nil, api.OK }
-
-// Close gives the rest of the stream (P10).
-func (x *Encoder) Close() ([]byte, api.Errno) { return nil, api.OK }
-
-// NewDecoder makes a Decoder (P11).
-func NewDecoder() *Decoder { return nil }
-
-// Feed takes bytes of a stream, and gives data (P11).
-func (x *Decoder) Feed(p []byte) ([]byte, api.Errno) { return nil, api.OK }
-
-// End tells how the stream ended (P11).
-func (x *Decoder) End() api.Errno { return api.OK }

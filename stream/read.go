@@ -13,24 +13,82 @@ type Frame struct {
 	Piece  []byte
 }
 
+// Stage tells what comes next at the place up to which a stream has been read. Its zero value is that of a stream of which nothing has been read.
+type Stage int
+
+const (
+	Begin  Stage = 0 // what stands ahead of the first frame
+	Middle Stage = 1 // a frame, or the end
+	Last   Stage = 2 // the end: behind a short frame there is no other
+	Ended  Stage = 3 // nothing
+)
+
+// Reading: how far some bytes of a stream could be read.
+type Reading struct {
+	Frames []Frame
+	Stage  Stage // what comes behind what was read whole
+	Used   int   // how many bytes were read whole: up to the end of the beginning, of a frame or of the stream
+}
+
 // Read gives the frames of a whole stream.
 func Read(s []byte) ([]Frame, api.Errno) {
 	if len(s) > api.MaxStream {
 		return nil, api.ErrLong
 	}
-	r := bits.NewReader(s)
-	e := readBegin(r)
+	got, e := ReadOn(s, Begin)
 	if e != api.OK {
 		return nil, e
 	}
-	frames, e := readFrames(r)
-	if e != api.OK {
-		return nil, e
+	return got.Frames, api.OK
+}
+
+// ReadOn reads the bytes s of a stream, of which all that stands ahead of them was read whole. Beside an error it tells what was read ahead of it, since that is the data which a Decoder gives in spite of the error.
+func ReadOn(s []byte, from Stage) (Reading, api.Errno) {
+	r := bits.NewReader(s)
+	got := Reading{Stage: from}
+	for got.Stage != Ended {
+		f, next, e := readPart(r, got.Stage)
+		if e != api.OK {
+			return got, e
+		}
+		if len(f.Piece) > 0 {
+			got.Frames = append(got.Frames, f)
+		}
+		got.Stage = next
+		got.Used = r.BytesRead()
 	}
 	if !r.AtEnd() {
-		return nil, api.ErrMore
+		return got, api.ErrMore
 	}
-	return frames, api.OK
+	return got, api.OK
+}
+
+// readPart reads what comes at this stage, and tells the stage behind it. It reads a bit at least, so that there is an end to its calls.
+func readPart(r *bits.Reader, stage Stage) (Frame, Stage, api.Errno) {
+	if stage == Begin {
+		e := readBegin(r)
+		if e != api.OK {
+			return Frame{}, Begin, e
+		}
+		return Frame{}, Middle, api.OK
+	}
+	f, e := readFrame(r, stage == Last)
+	if e != api.OK {
+		return Frame{}, Begin, e
+	}
+	return f, behind(f), api.OK
+}
+
+// behind tells the stage behind a frame, or behind the end.
+func behind(f Frame) Stage {
+	n := len(f.Piece)
+	if n == 0 {
+		return Ended
+	}
+	if n < api.Piece {
+		return Last
+	}
+	return Middle
 }
 
 func readBegin(r *bits.Reader) api.Errno {
@@ -46,23 +104,7 @@ func readBegin(r *bits.Reader) api.Errno {
 	return api.OK
 }
 
-// readFrames reads up to the end of the stream, and that too.
-func readFrames(r *bits.Reader) ([]Frame, api.Errno) {
-	var frames []Frame
-	short := false
-	f, e := readFrame(r, short)
-	for e == api.OK && len(f.Piece) > 0 {
-		frames = append(frames, f)
-		short = len(f.Piece) < api.Piece
-		f, e = readFrame(r, short)
-	}
-	if e != api.OK {
-		return nil, e
-	}
-	return frames, api.OK
-}
-
-// readFrame reads a frame, or the end. Behind a short frame there is no other.
+// readFrame reads a frame, or the end.
 func readFrame(r *bits.Reader, behindShort bool) (Frame, api.Errno) {
 	v, e := r.Number(api.ErrFrame)
 	if e != api.OK {
